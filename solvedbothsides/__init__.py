@@ -1,0 +1,1 @@
+"""Formulas over tables of which only some entries are known."""
