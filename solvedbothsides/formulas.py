@@ -56,6 +56,20 @@ def parts(value):
     return found
 
 
+def folded(formula, at_name, at_word):
+    """Return what at_word makes of a formula's word and of what the two formulas in it come to, at_name of a name."""
+    made = []
+    # Backwards, what the parts in a part come to is there when the part itself is reached, the first one on top.
+    for part in parts(formula)[::-1]:
+        if is_whole(part):
+            made.append(at_name(part))
+        else:
+            first = made.pop()
+            second = made.pop()
+            made.append(at_word(part[0], first, second))
+    return made.pop()
+
+
 def part_error(names, part):
     """Return the word for what is wrong with part, whatever the parts in it are; None if nothing is."""
     if is_whole(part):

@@ -1,7 +1,43 @@
-"""What several tests need: tables, all formulas of a size, and a way to tell a formula that is not the program's."""
+"""What several tests need, made by other ways than the program's: tables, formulas, worlds, and what must be one."""
+
+import itertools
+import random
 
 T = ((0, 2, 1), (1, 0, 2), (2, 1, 0))
+F = (4, ((0, 1, 2), (0, 3, 2)), ((0, 1),))
 WORDS = ("with", "behind", "ahead")
+# A formula of four levels, of size 15, of the names 0 to 7, each once, and with all three words.
+BIG = (
+    "with",
+    ("behind", ("ahead", 0, 1), ("with", 2, 3)),
+    ("ahead", ("with", 4, 5), ("behind", 6, 7)),
+)
+# Another one, with other words and the names the other way round.
+OTHER_BIG = (
+    "ahead",
+    ("with", ("with", 7, 6), ("behind", 5, 4)),
+    ("behind", ("behind", 3, 2), ("ahead", 1, 0)),
+)
+# Eight names and ten entries, and two names that all of the ten must be there for to be one thing.
+LONG_CHAINS = (
+    (
+        ((0, 0, 2), (0, 6, 1), (1, 4, 6), (2, 6, 3), (4, 6, 3), (5, 1, 1), (6, 3, 6), (6, 5, 2), (7, 3, 4), (7, 4, 2)),
+        (0, 6),
+    ),
+    (
+        ((1, 7, 2), (2, 1, 0), (2, 4, 4), (2, 7, 5), (3, 0, 2), (3, 4, 5), (6, 0, 0), (6, 1, 1), (7, 0, 0), (7, 1, 2)),
+        (1, 4),
+    ),
+    (
+        ((1, 0, 4), (1, 6, 3), (2, 4, 2), (3, 4, 2), (3, 6, 6), (4, 0, 0), (4, 6, 2), (5, 3, 4), (5, 4, 6), (5, 5, 0)),
+        (4, 6),
+    ),
+)
+# Values that are no integer, no triple of integers, no table, no block and no formula, for every place.
+ODD = (
+    None, True, False, "", "0", "with", [], [0], [0, 1, 2], {}, {0: 1}, (), (None,), (True,), (0, 1, 2, 3), ((0,),),
+    -1, -10 ** 59, 10 ** 59, ([0, 1, 2],), [(0, 1, 2)], ValueError("x"),
+)
 
 
 def lined(size, left, right, more):
@@ -11,6 +47,67 @@ def lined(size, left, right, more):
 
 # In the last one no two of "with", "behind" and "ahead", whichever way round, tell the same.
 TABLES = (((0,),), ((0, 1), (1, 0)), T, lined(5, 2, 3, 1))
+
+
+def latin(size):
+    """Return all tables of this size."""
+    found = [()]
+    for _ in range(size):
+        found = [
+            (*rows, row)
+            for rows in found
+            for row in itertools.permutations(range(size))
+            if all(row[y] != above[y] for above in rows for y in range(size))
+        ]
+    return found
+
+
+# All tables of one to three things.
+SMALL_TABLES = tuple(table for size in (1, 2, 3) for table in latin(size))
+
+
+def shuffled(rng, size):
+    """Return a table of this size in no order."""
+    rows, columns, things = (rng.sample(range(size), size) for _ in range(3))
+    return tuple(tuple(things[(x + y) % size] for y in columns) for x in rows)
+
+
+def is_table(table):
+    """Return whether table is a table, by a look at each row and column."""
+    if type(table) is not tuple or any(type(row) is not tuple for row in table):
+        return False
+    things = list(range(len(table)))
+    whole = all(type(thing) is int for row in table for thing in row)
+    return (
+        whole and len(things) > 0
+        and all(sorted(row) == things for row in table)
+        and all(sorted(column) == things for column in zip(*table))
+    )
+
+
+def is_world(facts, value):
+    """Return whether value is a world of the facts, by a look at each of them."""
+    names, entries, unlike = facts
+    if type(value) is not tuple or len(value) != 2:
+        return False
+    table, things = value
+    if not is_table(table) or type(things) is not tuple or len(things) != names:
+        return False
+    return (
+        all(type(thing) is int and 0 <= thing < len(table) for thing in things)
+        and all(table[things[x]][things[y]] == things[z] for x, y, z in entries)
+        and all(things[x] != things[y] for x, y in unlike)
+    )
+
+
+def small_worlds(facts):
+    """Return all worlds of the facts with tables of one to three things."""
+    return [
+        (table, things)
+        for table in SMALL_TABLES
+        for things in itertools.product(range(len(table)), repeat=facts[0])
+        if is_world(facts, (table, things))
+    ]
 
 
 def told(table, things, formula):
@@ -23,6 +120,27 @@ def told(table, things, formula):
     if formula[0] == "behind":
         return table[one].index(other)
     return [row[one] for row in table].index(other)
+
+
+def by_hand(names, entries):
+    """Return the least name that must be the same thing, for each name: entry against entry, then all again."""
+    groups = [{name} for name in range(names)]
+
+    def group(name):
+        return next(found for found in groups if name in found)
+
+    changed = True
+    while changed:
+        changed = False
+        for one, other in itertools.combinations(entries, 2):
+            unlike = [k for k in range(3) if group(one[k]) is not group(other[k])]
+            if len(unlike) == 1:
+                first, second = group(one[unlike[0]]), group(other[unlike[0]])
+                first |= second
+                groups.remove(second)
+                changed = True
+                break
+    return tuple(min(group(name)) for name in range(names))
 
 
 def formulas(names, size):
@@ -38,12 +156,63 @@ def formulas(names, size):
     ]
 
 
+def some_formula(rng, names, size):
+    """Return a formula of this odd size of names below names."""
+    if size == 1:
+        return rng.randrange(names)
+    first = rng.randrange(1, size - 1, 2)
+    return (rng.choice(WORDS), some_formula(rng, names, first), some_formula(rng, names, size - 1 - first))
+
+
+def some_facts(rng, names, entries, unlike):
+    """Return facts of so many names, and at most so many entries and pairs, whether they have a world or not."""
+    triples = {tuple(rng.randrange(names) for _ in range(3)) for _ in range(entries)}
+    pairs = list(itertools.combinations(range(names), 2))
+    return (names, tuple(sorted(triples)), tuple(sorted(rng.sample(pairs, min(unlike, len(pairs))))))
+
+
+def facts_with_world(rng, names, entries, unlike, size):
+    """Return facts that have a world with a table of this size."""
+    table = shuffled(rng, size)
+    things = [rng.randrange(size) for _ in range(names)]
+    holding = [
+        (x, y, z)
+        for x, y, z in itertools.product(range(names), repeat=3)
+        if table[things[x]][things[y]] == things[z]
+    ]
+    pairs = [(x, y) for x, y in itertools.combinations(range(names), 2) if things[x] != things[y]]
+    return (
+        names,
+        tuple(sorted(rng.sample(holding, min(entries, len(holding))))),
+        tuple(sorted(rng.sample(pairs, min(unlike, len(pairs))))),
+    )
+
+
+def many_facts(seed, many, greatest=8, only_with_world=False):
+    """Return so many facts of 1 to so many names, some with few entries and some with many."""
+    rng = random.Random(seed)
+    found = []
+    while len(found) < many:
+        names = rng.randint(1, greatest)
+        sizes = (names, rng.randint(0, 10), rng.randint(0, 6))
+        facts = facts_with_world(rng, *sizes, rng.randint(1, 9)) if rng.random() < 0.5 else some_facts(rng, *sizes)
+        leads = by_hand(names, facts[1])
+        if not only_with_world or all(leads[x] != leads[y] for x, y in facts[2]):
+            found.append(facts)
+    return found
+
+
 def chain(size, word="with", name=0, place=1):
     """Return a formula of this odd size with all its depth at one place (1 or 2)."""
     formula = name
     for _ in range(size // 2):
         formula = (word, formula, name) if place == 1 else (word, name, formula)
     return formula
+
+
+def names_in(formula):
+    """Return the list of the names in a formula, each as often as it stands there."""
+    return [formula] if isinstance(formula, int) else names_in(formula[1]) + names_in(formula[2])
 
 
 def paths(value, path=()):
@@ -55,9 +224,28 @@ def paths(value, path=()):
     return found
 
 
+def item(formula, path):
+    """Return the part of a formula at the end of path."""
+    return item(formula[path[0]], path[1:]) if path else formula
+
+
 def replaced(value, path, part):
     """Return value with part at the end of path."""
     if not path:
         return part
     place = path[0]
     return value[:place] + (replaced(value[place], path[1:], part),) + value[place + 1:]
+
+
+def exact(value):
+    """Return value with the kind of each part beside it, so that True is no 1 and a list no tuple."""
+    if isinstance(value, (tuple, list)):
+        return (type(value), [exact(part) for part in value])
+    return (type(value), value)
+
+
+def is_plain_value(value):
+    """Return whether value is made of tuples, integers, strings, True, False and None alone."""
+    if type(value) is tuple:
+        return all(is_plain_value(part) for part in value)
+    return value is None or type(value) in (int, str, bool)

@@ -26,8 +26,14 @@ BUILTINS = set(
 )
 BARRED = re.compile(
     r"\b(type|typing|typing_extensions|enum|Enum|IntEnum|StrEnum|Flag|IntFlag|Generic|Protocol|ABC|ABCMeta|namedtuple|"
-    r"NamedTuple|TypedDict|TYPE_CHECKING|abstractmethod)\b|dataclass|overload|contextmanager|_wall|\bregister\b|\bmro\b|"
-    r"\belements\b|\bopen\b|\binput\b|\blaw\b"
+    r"NamedTuple|TypedDict|TYPE_CHECKING|abstractmethod)\b|dataclass|overload|contextmanager|_wall"
+)
+# What is no name of anything; in a string it may stand.
+NO_NAMES = set("register mro elements open input law version_info with_traceback add_note".split())
+METHODS = set(
+    "append clear copy count endswith extend find get index insert isalnum isalpha isdigit islower isspace isupper "
+    "items join keys ljust lower lstrip partition pop remove replace reverse rfind rjust rpartition rsplit rstrip setdefault "
+    "split splitlines startswith strip update upper values zfill bit_length add discard".split()
 )
 # What the interface lists for each file that has landed, with the names of the arguments.
 INTERFACE = {
@@ -35,6 +41,22 @@ INTERFACE = {
         "size": ["formula"],
         "formula_error": ["names", "value"],
         "solved": ["formula", "name", "out"],
+    },
+    "facts": {
+        "facts_error": ["value"], "merged": ["facts"], "forcing": ["facts", "one", "other"], "clash": ["facts"],
+    },
+    "tables": {
+        "table_error": ["value"], "outcome": ["table", "one", "other"], "behind": ["table", "one", "out"],
+        "ahead": ["table", "other", "out"], "value": ["table", "things", "formula"],
+        "holds": ["table", "one", "other"], "kinds": ["table"],
+    },
+    "worlds": {
+        "world_error": ["facts", "value"], "verdict": ["facts", "one", "other"], "parted": ["facts", "one", "other"],
+        "joined": ["facts", "one", "other"], "world": ["facts"], "world_of": ["facts", "size"],
+    },
+    "blocks": {
+        "block_error": ["size", "value"], "lacking": ["block", "size"], "completed": ["block", "size"],
+        "begun_error": ["value"], "grown": ["begun", "size"],
     },
     "errors": {
         "BadFacts": ["number", "word"], "BadFormula": ["word"], "BadSize": ["size"], "BadText": ["line", "number"],
@@ -146,6 +168,103 @@ class Files(unittest.TestCase):
             for node in ast.walk(tree):
                 if isinstance(node, ast.Name) and node.id not in bound:
                     self.assertIn(node.id, BUILTINS, name)
+
+    def test_no_names(self):
+        for name, _, tree in self.each():
+            told = bound_names(tree)
+            for node in ast.walk(tree):
+                if isinstance(node, (ast.FunctionDef, ast.ClassDef)):
+                    told.add(node.name)
+                elif isinstance(node, ast.Attribute):
+                    told.add(node.attr)
+                elif isinstance(node, (ast.Name, ast.keyword)):
+                    told.add(node.id if isinstance(node, ast.Name) else node.arg)
+            self.assertEqual(told & NO_NAMES, set(), name)
+
+    def test_no_argument_or_variable_has_the_name_of_an_import_or_a_class_of_its_file(self):
+        for name, _, tree in self.each():
+            taken = {part.name for part in tree.body if isinstance(part, ast.ClassDef)}
+            for node in ast.walk(tree):
+                if isinstance(node, ast.ImportFrom):
+                    taken.update(alias.name for alias in node.names)
+            for node in ast.walk(tree):
+                if isinstance(node, ast.arg):
+                    self.assertNotIn(node.arg, taken, name)
+                elif isinstance(node, ast.Name) and isinstance(node.ctx, ast.Store):
+                    self.assertNotIn(node.id, taken, name)
+
+    def test_one_binding_for_each_name(self):
+        for name, _, tree in self.each():
+            found = [part.name for part in tree.body if hasattr(part, "name")]
+            for part in tree.body:
+                if isinstance(part, ast.ImportFrom):
+                    found += [alias.name for alias in part.names]
+                elif isinstance(part, ast.Assign):
+                    self.assertEqual(len(part.targets), 1, name)
+                    found += [target.id for target in part.targets]
+            self.assertEqual(len(found), len(set(found)), name)
+
+    def test_each_import_is_used(self):
+        for name, _, tree in self.each():
+            read = {node.id for node in ast.walk(tree) if isinstance(node, ast.Name)}
+            for node in ast.walk(tree):
+                if isinstance(node, ast.ImportFrom):
+                    self.assertLessEqual({alias.name for alias in node.names}, read, name)
+
+    def test_no_two_files_import_from_each_other(self):
+        behind = {}
+        for name, _, tree in self.each():
+            modules = [node.module for node in ast.walk(tree) if isinstance(node, ast.ImportFrom)]
+            behind[name] = {module.partition(".")[2] + ".py" for module in modules if module.startswith(PACKAGE)}
+        for name in behind:
+            reached, waiting = set(), list(behind[name])
+            while waiting:
+                further = waiting.pop()
+                if further not in reached:
+                    reached.add(further)
+                    waiting += behind[further]
+            self.assertNotIn(name, reached)
+
+    def test_methods(self):
+        for name, _, tree in self.each():
+            own = {node.name for node in ast.walk(tree) if isinstance(node, ast.FunctionDef)}
+            for node in ast.walk(tree):
+                if isinstance(node, ast.Call) and isinstance(node.func, ast.Attribute):
+                    self.assertIn(node.func.attr, METHODS | own, name)
+
+    def test_sets_stand_only_where_they_may(self):
+        for name, _, tree in self.each():
+            for function in ast.walk(tree):
+                if isinstance(function, ast.FunctionDef):
+                    self.check_sets(function, name)
+
+    def check_sets(self, function, name):
+        """Check that a set is kept under a name that is only asked and added to, or stands in len or sorted."""
+        kept = set()
+        made = []
+        for node in ast.walk(function):
+            if isinstance(node, (ast.Set, ast.SetComp)) or (
+                isinstance(node, ast.Call) and isinstance(node.func, ast.Name) and node.func.id == "set"
+            ):
+                made.append(node)
+            if isinstance(node, ast.For):
+                self.assertNotIsInstance(node.iter, (ast.Set, ast.SetComp), name)
+        around = {id(child): node for node in ast.walk(function) for child in ast.iter_child_nodes(node)}
+        for node in made:
+            above = around[id(node)]
+            if isinstance(above, ast.Assign):
+                kept.add(above.targets[0].id)
+            elif isinstance(above, ast.Call):
+                self.assertIn(above.func.id, ("len", "sorted"), (name, function.name))
+            else:
+                self.assertIsInstance(above, ast.Compare, (name, function.name))
+        for node in ast.walk(function):
+            if isinstance(node, ast.Name) and node.id in kept and isinstance(node.ctx, ast.Load):
+                above = around[id(node)]
+                asked = isinstance(above, ast.Compare) and node in above.comparators
+                added = isinstance(above, ast.Attribute) and above.attr in ("add", "discard")
+                measured = isinstance(above, ast.Call) and above.func.id in ("len", "sorted")
+                self.assertTrue(asked or added or measured, (name, function.name))
 
     def test_barred_words(self):
         for name, text, tree in self.each():

@@ -4,14 +4,8 @@ import unittest
 from solvedbothsides.bounds import MAX_NAMES, MAX_SIZE
 from solvedbothsides.errors import BadSize, Full
 from solvedbothsides.formulas import formula_error, size
-from helper import WORDS, chain, formulas, paths, replaced
+from helper import BIG, WORDS, chain, formulas, paths, replaced
 
-# A formula of four levels, of size 15, of the names 0 to 7, each once, and with all three words.
-BIG = (
-    "with",
-    ("behind", ("ahead", 0, 1), ("with", 2, 3)),
-    ("ahead", ("with", 4, 5), ("behind", 6, 7)),
-)
 # What is wrong in the place of a part, whatever stands around it, with the word for it.
 WRONG = [
     (True, "formula"), (False, "formula"), (None, "formula"), ("", "formula"), ("0", "formula"), ("with", "formula"),

@@ -4,15 +4,7 @@ import unittest
 from solvedbothsides.bounds import MAX_NAMES
 from solvedbothsides.errors import NotOnce, TableError, Taken
 from solvedbothsides.formulas import formula_error, size, solved
-from helper import TABLES, WORDS, chain, formulas, paths, replaced, told
-
-
-def names_in(formula):
-    return [formula] if isinstance(formula, int) else names_in(formula[1]) + names_in(formula[2])
-
-
-def item(formula, path):
-    return item(formula[path[0]], path[1:]) if path else formula
+from helper import TABLES, WORDS, chain, formulas, item, names_in, paths, replaced, told
 
 
 class Solved(unittest.TestCase):
