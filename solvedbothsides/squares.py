@@ -54,13 +54,14 @@ def spread(wanted, things, places):
 
 
 def put(lines, takers, line, thing):
-    """Put a thing in a line where it has a free place, and make way for it in the lines of which it takes the place.
+    """Put a thing at a free place of a line, and let it change its place in the line that has it there, and so on.
 
-    lines tells which thing stands at a place of a line, takers which line has a thing at a place.
+    lines tells which thing stands at a place of a line, takers which line has a thing at a place. All other lines in
+    which something stands are full.
     """
     here = lines[line].index(None)
     there = takers[thing].index(None)
-    # What is driven out changes from one of these places to the other, along a path that never comes back to the line.
+    # Things change from one of these places to the other along a path that cannot come back to the first line.
     while True:
         driven = takers[thing][here]
         takers[thing][there] = driven
@@ -70,8 +71,5 @@ def put(lines, takers, line, thing):
             return
         further = lines[driven][there]
         lines[driven][there] = thing
-        lines[driven][here] = further
-        if further is None:
-            return
         line = driven
         thing = further

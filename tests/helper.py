@@ -249,3 +249,102 @@ def is_plain_value(value):
     if type(value) is tuple:
         return all(is_plain_value(part) for part in value)
     return value is None or type(value) in (int, str, bool)
+
+
+# What a formula that does something and undoes it again becomes; letters stand for any formula.
+UNDONE = (
+    (("with", "a", ("behind", "a", "c")), "c"),
+    (("with", ("ahead", "b", "c"), "b"), "c"),
+    (("behind", "a", ("with", "a", "b")), "b"),
+    (("behind", ("ahead", "b", "c"), "c"), "b"),
+    (("ahead", "b", ("with", "a", "b")), "a"),
+    (("ahead", ("behind", "a", "c"), "c"), "a"),
+)
+
+
+def matched(pattern, formula, letters):
+    """Return letters with the formulas for which further letters stand, None if the formula is not of this pattern."""
+    if pattern in ("a", "b", "c"):
+        return {**letters, pattern: formula} if letters.get(pattern, formula) == formula else None
+    if isinstance(formula, int) or formula[0] != pattern[0]:
+        return None
+    letters = matched(pattern[1], formula[1], letters)
+    return None if letters is None else matched(pattern[2], formula[2], letters)
+
+
+def filled(pattern, letters):
+    """Return the formula of a pattern with formulas for its letters."""
+    if isinstance(pattern, str):
+        return letters[pattern]
+    return (pattern[0], filled(pattern[1], letters), filled(pattern[2], letters))
+
+
+def read_by_entry(leads, entries, formula):
+    """Return the leads of the names that an entry tells for a formula of two names."""
+    if isinstance(formula, int) or not (isinstance(formula[1], int) and isinstance(formula[2], int)):
+        return []
+    found = []
+    for entry in entries:
+        x, y, z = (leads[name] for name in entry)
+        ways = {"with": (x, y, z), "behind": (x, z, y), "ahead": (y, z, x)}
+        one, other, told_name = ways[formula[0]]
+        if (one, other) == (leads[formula[1]], leads[formula[2]]):
+            found.append(told_name)
+    return found
+
+
+def is_single_move(facts, one, other):
+    """Return whether a single move leads from one formula to the other one, by a look at each part."""
+    leads = by_hand(facts[0], facts[1])
+    there = set(paths(other))
+    for path in paths(one):
+        if path in there and replaced(one, path, item(other, path)) == other:
+            if is_move_of_the_whole(leads, facts[1], item(one, path), item(other, path)):
+                return True
+    return False
+
+
+def is_move_of_the_whole(leads, entries, one, other):
+    """Return whether a move takes one formula, and no part of it alone, and makes the other one of it."""
+    if isinstance(one, int) and isinstance(other, int):
+        return one != other and leads[one] == leads[other]
+    for long, short in ((one, other), (other, one)):
+        for pattern, letter in UNDONE:
+            letters = matched(pattern, long, {})
+            if letters is not None and letters[letter] == short:
+                return True
+        if isinstance(short, int) and leads[short] in read_by_entry(leads, entries, long):
+            return True
+    return False
+
+
+def plain_by_hand(facts, formula, leads=None):
+    """Return the plain form of a formula, made from within outwards."""
+    leads = by_hand(facts[0], facts[1]) if leads is None else leads
+    if isinstance(formula, int):
+        return leads[formula]
+    formula = (formula[0], *(plain_by_hand(facts, part, leads) for part in formula[1:]))
+    for pattern, letter in UNDONE:
+        letters = matched(pattern, formula, {})
+        if letters is not None:
+            return letters[letter]
+    return next(iter(read_by_entry(leads, facts[1], formula)), formula)
+
+
+def moved(rng, facts, formula, greatest=15):
+    """Return what some move makes of some part of a formula, of at most this size; the formula if none was found."""
+    leads = by_hand(facts[0], facts[1])
+    path = rng.choice(paths(formula))
+    part = item(formula, path)
+    found = [letters[letter] for pattern, letter in UNDONE if (letters := matched(pattern, part, {})) is not None]
+    if isinstance(part, int):
+        found += [name for name in range(facts[0]) if name != part and leads[name] == leads[part]]
+        for x, y, z in facts[1]:
+            ways = ((("with", x, y), z), (("behind", x, z), y), (("ahead", y, z), x))
+            found += [long for long, name in ways if leads[name] == leads[part]]
+    found += [name for name in range(facts[0]) if leads[name] in read_by_entry(leads, facts[1], part)]
+    for pattern, letter in UNDONE:
+        letters = {other: some_formula(rng, facts[0], rng.choice((1, 1, 3))) for other in "abc"}
+        found.append(filled(pattern, {**letters, letter: part}))
+    made = replaced(formula, path, rng.choice(found))
+    return made if len(paths(made)) <= greatest else formula

@@ -54,6 +54,28 @@ CALLS = {
         "begun_error": [(BEGUN,)] + [(value,) for value in SOME],
         "grown": [(BEGUN, 60), (((0, None), (None, 0)), 5)],
     },
+    "plain": {
+        "plain": [(F, ("with", ("ahead", 3, 2), 1)), (EIGHT, BIG), (EIGHT, OTHER_BIG)],
+        "same": [(F, 1, 3), (F, 0, 1), (EIGHT, BIG, OTHER_BIG), (EIGHT, BIG, BIG)],
+        "road": [(F, 1, 3), (F, 0, 1), (EIGHT, chain(15, "with", 5), chain(15, "ahead", 6, 2)), (EIGHT, BIG, BIG)],
+        "is_road": [(F, 1, 3, (1, 3)), (EIGHT, BIG, BIG, (BIG,)), (EIGHT, 5, 6, (5, 6) * 20)]
+        + [(F, 1, 3, value) for value in SOME],
+    },
+    "follow": {
+        "follows": [(F, (0, 2, 2)), (EIGHT, (5, 4, 3)), (EIGHT, (7, 7, 7))],
+        "spare": [(F,), (EIGHT,)],
+        "alike": [(F, F), (EIGHT, EIGHT), (EIGHT, WITHOUT_WORLD), (WITHOUT_WORLD, WITHOUT_WORLD)],
+    },
+    "placing": {
+        "placed": [(F, T), (EIGHT, T), ((2, (), ()), GREAT), (WITHOUT_WORLD, T)],
+        "places": [(F, T), (EIGHT, T), ((2, (), ()), GREAT), (WITHOUT_WORLD, T)],
+    },
+    "turning": {
+        "turned": [(T, (1, 0, 2)), (GREAT, (2, 0, 1))],
+        "turned_facts": [(F, (0, 2, 1)), (EIGHT, (1, 2, 0)), (WITHOUT_WORLD, (2, 1, 0))],
+        "turned_formula": [(("behind", 0, 1), (1, 0, 2)), (BIG, (1, 2, 0))],
+        "back": [((1, 2, 0),), ((0, 1, 2),)],
+    },
 }
 
 

@@ -5,6 +5,10 @@ import unittest
 from solvedbothsides.bounds import MAX_ENTRIES, MAX_NAMES, MAX_UNLIKE
 from solvedbothsides.errors import NoTable
 from solvedbothsides.facts import clash, facts_error, forcing, merged
+from solvedbothsides.follow import alike, follows, spare
+from solvedbothsides.placing import placed, places
+from solvedbothsides.plain import is_road, plain, road, same
+from solvedbothsides.turning import turned_facts
 from solvedbothsides.worlds import joined, parted, verdict, world, world_error, world_of
 from helper import F, LONG_CHAINS, ODD, T, by_hand, exact, many_facts
 
@@ -305,6 +309,16 @@ class WithoutWorld(unittest.TestCase):
             for function in (verdict, parted, joined):
                 for one, other in ((0, 0), (0, 1), (("with", 0, 1), 2), (("with", 0, 1), ("with", 0, 1))):
                     self.check(function, facts, one, other)
+            for function in (same, road):
+                for one, other in ((0, 0), (0, 1), (("with", 0, 1), 2), (("with", 0, 1), ("with", 0, 1))):
+                    self.check(function, facts, one, other)
+            for value in ODD + ((0,), (0, ("with", 0, ("behind", 0, 0)), 0)):
+                self.check(is_road, facts, 0, 0, value)
+            for formula in (0, 1, ("with", 0, 1), ("behind", 0, ("with", 0, 1))):
+                self.check(plain, facts, formula)
+            for entry in ((0, 0, 0), (0, 1, 2), facts[1][0]):
+                self.check(follows, facts, entry)
+            self.check(spare, facts)
             self.check(world, facts)
             for size in (2 * facts[0], 60):
                 self.check(world_of, facts, size)
@@ -316,6 +330,12 @@ class WithoutWorld(unittest.TestCase):
             self.assertIsNone(facts_error(facts))
             self.assertEqual(world_error(facts, None), (None, "world"))
             self.assertEqual(world_error(facts, (T, (0,))), (None, "things"))
+            self.assertIs(alike(facts, facts), True)
+            self.assertIs(alike(facts, (facts[0], (), ())), False)
+            self.assertIs(alike((facts[0], (), ()), facts), False)
+            self.assertIsNone(placed(facts, ((0, 1), (1, 0))))
+            self.assertEqual(places(facts, ((0, 1), (1, 0))), 0)
+            self.assertEqual(turned_facts(facts, (0, 1, 2)), facts)
 
 
 if __name__ == "__main__":

@@ -32,8 +32,8 @@ BARRED = re.compile(
 NO_NAMES = set("register mro elements open input law version_info with_traceback add_note".split())
 METHODS = set(
     "append clear copy count endswith extend find get index insert isalnum isalpha isdigit islower isspace isupper "
-    "items join keys ljust lower lstrip partition pop remove replace reverse rfind rjust rpartition rsplit rstrip setdefault "
-    "split splitlines startswith strip update upper values zfill bit_length add discard".split()
+    "items join keys ljust lower lstrip partition pop remove replace reverse rfind rjust rpartition rsplit rstrip "
+    "setdefault split splitlines startswith strip update upper values zfill bit_length add discard".split()
 )
 # What the interface lists for each file that has landed, with the names of the arguments.
 INTERFACE = {
@@ -57,6 +57,16 @@ INTERFACE = {
     "blocks": {
         "block_error": ["size", "value"], "lacking": ["block", "size"], "completed": ["block", "size"],
         "begun_error": ["value"], "grown": ["begun", "size"],
+    },
+    "plain": {
+        "plain": ["facts", "formula"], "same": ["facts", "one", "other"], "road": ["facts", "one", "other"],
+        "is_road": ["facts", "one", "other", "value"],
+    },
+    "follow": {"follows": ["facts", "entry"], "spare": ["facts"], "alike": ["one", "other"]},
+    "placing": {"placed": ["facts", "table"], "places": ["facts", "table"]},
+    "turning": {
+        "turned": ["table", "way"], "turned_facts": ["facts", "way"], "turned_formula": ["formula", "way"],
+        "back": ["way"],
     },
     "errors": {
         "BadFacts": ["number", "word"], "BadFormula": ["word"], "BadSize": ["size"], "BadText": ["line", "number"],

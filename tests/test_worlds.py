@@ -8,8 +8,8 @@ from solvedbothsides.errors import BadSize, NoTable, TableError
 from solvedbothsides.facts import merged
 from solvedbothsides.worlds import joined, parted, verdict, world, world_error, world_of
 from helper import (
-    BIG, F, LONG_CHAINS, ODD, OTHER_BIG, T, chain, exact, facts_with_world, formulas, is_world, lined, many_facts,
-    names_in, small_worlds, some_formula, told,
+    BIG, F, LONG_CHAINS, ODD, OTHER_BIG, T, by_hand, chain, exact, facts_with_world, formulas, is_world, lined,
+    many_facts, names_in, small_worlds, some_formula, told,
 )
 
 EMPTY = (8, (), ())
@@ -90,6 +90,30 @@ class WorldError(unittest.TestCase):
         found = [world_error(F, value) for value in values]
         self.assertEqual([world_error(F, value) for value in values], found)
         self.assertEqual(exact(values), exact(before))
+
+
+def entries_of(formula, many):
+    """Return entries for all parts of a formula, the thing that it tells, and how many things there are then."""
+    if isinstance(formula, int):
+        return [], formula, many
+    first, one, many = entries_of(formula[1], many)
+    second, other, many = entries_of(formula[2], many)
+    entry = {"with": (one, other, many), "behind": (one, many, other), "ahead": (many, one, other)}[formula[0]]
+    return first + second + [entry], many, many + 1
+
+
+def verdict_by_hand(facts, one, other):
+    """Return what verdict should tell, by what must be one thing among all that the parts tell."""
+    names, entries, unlike = facts
+    first, one, many = entries_of(one, names)
+    second, other, many = entries_of(other, many)
+    entries = [*entries, *first, *second]
+    leads = by_hand(many, entries)
+    if leads[one] == leads[other]:
+        return "always"
+    # Two entries more that make the two things one.
+    leads = by_hand(many + 2, entries + [(one, many, many + 1), (other, many, many + 1)])
+    return "never" if any(leads[x] == leads[y] for x, y in unlike) else "open"
 
 
 class AsksForWorlds(unittest.TestCase):
@@ -177,6 +201,17 @@ class Verdict(AsksForWorlds):
                     right = self.check(facts, one, other)
                     if right != "open":
                         self.assertNotIn(right == "never", sames)
+
+    def test_by_hand(self):
+        counts = {"always": 0, "never": 0, "open": 0}
+        for facts in many_facts(9, 150, only_with_world=True):
+            rng = random.Random(str(facts))
+            for size, other_size in ((1, 1), (3, 1), (3, 3), (5, 3), (7, 7)):
+                one, other = some_formula(rng, facts[0], size), some_formula(rng, facts[0], other_size)
+                right = verdict_by_hand(facts, one, other)
+                self.assertEqual(verdict(facts, one, other), right, (facts, one, other))
+                counts[right] += 1
+        self.assertGreater(min(counts.values()), 40, counts)
 
     def test_parted_and_joined(self):
         found = formulas(3, 1) + formulas(3, 3)
