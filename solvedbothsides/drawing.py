@@ -4,15 +4,19 @@ from solvedbothsides.formulas import parts
 from solvedbothsides.shapes import is_whole
 
 
-def drawn(facts, one, other):
-    """Return how many things there are, the entries of the facts and of both formulas, and the pair that these tell.
+def drawn(facts, pairs):
+    """Return how many things there are, the entries of the facts and of the formulas in pairs, and what these tell.
 
-    The names are the first things.
+    The names are the first things. What the formulas tell is told pair by pair, in the order of pairs.
     """
-    names, entries, _ = facts
-    many, first_entries, first = drawn_formula(names, one)
-    many, second_entries, second = drawn_formula(many, other)
-    return (many, [*entries, *first_entries, *second_entries], (first, second))
+    many, entries, _ = facts
+    told = []
+    for one, other in pairs:
+        many, first_entries, first = drawn_formula(many, one)
+        many, second_entries, second = drawn_formula(many, other)
+        entries = [*entries, *first_entries, *second_entries]
+        told.append((first, second))
+    return (many, entries, told)
 
 
 def drawn_formula(many, formula):

@@ -32,24 +32,19 @@ def world_error(facts, value):
 def verdict(facts, one, other):
     """Return whether the two formulas tell the same "always", "never", or in some worlds alone ("open")."""
     refuse_clash(facts)
-    drawing = drawn(facts, one, other)
-    if leads_apart(drawing) is None:
-        return "always"
-    return "never" if leads_as_one(facts, drawing) is None else "open"
+    return drawn_verdict(facts, drawn(facts, ((one, other),)))
 
 
 def parted(facts, one, other):
     """Return a world in which the two formulas tell unlike things, None if there is none."""
     refuse_clash(facts)
-    drawing = drawn(facts, one, other)
-    return world_by(facts, drawing, leads_apart(drawing))
+    return drawn_parted(facts, drawn(facts, ((one, other),)))
 
 
 def joined(facts, one, other):
     """Return a world in which the two formulas tell the same, None if there is none."""
     refuse_clash(facts)
-    drawing = drawn(facts, one, other)
-    return world_by(facts, drawing, leads_as_one(facts, drawing))
+    return drawn_joined(facts, drawn(facts, ((one, other),)))
 
 
 def world(facts):
@@ -68,17 +63,34 @@ def world_of(facts, size):
     return built(names, entries, merged(facts), size)
 
 
+def drawn_verdict(facts, drawing):
+    """Return what verdict tells of the last pair drawn, by the worlds in which each pair ahead of it tells the same."""
+    if leads_apart(drawing) is None:
+        return "always"
+    return "never" if leads_as_one(facts, drawing) is None else "open"
+
+
+def drawn_parted(facts, drawing):
+    """Return a world in which the last pair drawn tells unlike things, and each pair ahead the same; else None."""
+    return world_by(facts, drawing, leads_apart(drawing))
+
+
+def drawn_joined(facts, drawing):
+    """Return a world in which each pair drawn tells the same, None if there is none."""
+    return world_by(facts, drawing, leads_as_one(facts, drawing))
+
+
 def leads_apart(drawing):
-    """Return what is one thing in the drawing, None if this makes what the two formulas tell one thing."""
+    """Return what is one thing once each pair drawn but the last one tells the same, None if that one does so too."""
     many, entries, told = drawing
-    leads = closed(many, entries, ())
-    return None if are_one(leads, told) else leads
+    leads = closed(many, entries, told[:-1])
+    return None if are_one(leads, told[-1]) else leads
 
 
 def leads_as_one(facts, drawing):
-    """Return what is one thing in the drawing once the formulas tell the same, None if names must not be so."""
+    """Return what is one thing once each pair drawn tells the same, None if unlike names must be one thing then."""
     many, entries, told = drawing
-    leads = closed(many, entries, (told,))
+    leads = closed(many, entries, told)
     return None if any([are_one(leads, pair) for pair in facts[2]]) else leads
 
 

@@ -10,6 +10,7 @@ from helper import BIG, F, LONG_CHAINS, OTHER_BIG, T, chain, exact, is_plain_val
 from test_form import INTERFACE, PACKAGE
 
 EIGHT = (8, LONG_CHAINS[2][0], ((0, 7), (1, 7), (2, 7), (3, 7), (4, 7), (5, 7)))
+FREE = (8, (), EIGHT[2])
 WITHOUT_WORLD = (8, LONG_CHAINS[0][0], ((0, 6),))
 GREAT = lined(MAX_TABLE, 7, 11, 3)
 BLOCK = tuple(row[:20] for row in GREAT[:40])
@@ -17,6 +18,15 @@ BEGUN = ((None,) * 30,) * 15 + lined(30, 1, 1, 0)[15:]
 SOME = [
     None, True, 0, "x", [], [[0, [1]]], {}, {"a": [1, {2: [3]}]}, (), ((0, [0]),), (T, [0, 1, 2, 1]), (T, (0, 1, 2, 1)),
 ]
+GIVENS = ((("with", 0, 1), ("with", 1, 0)), (("with", 0, 0), 3))
+TORN_GIVENS = ((0, 2), (1, 3), (("behind", 0, 2), 0))
+LONG_GIVENS = (
+    (("with", 7, ("behind", 0, 7)), ("ahead", 7, ("with", 1, 7))),
+    (("with", ("ahead", 7, 2), 7), ("behind", 7, ("behind", 3, 7))),
+    (7, ("ahead", ("with", 7, 7), 5)),
+)
+LONG = ("with", ("behind", ("with", 0, 7), ("ahead", 7, 1)), ("ahead", ("with", 2, 7), 3))
+OTHER_LONG = ("behind", ("ahead", ("behind", 7, 0), ("with", 7, 7)), ("with", 6, ("behind", 5, 7)))
 # For each function several tuples of arguments, by position.
 CALLS = {
     "formulas": {
@@ -76,6 +86,27 @@ CALLS = {
         "turned_formula": [(("behind", 0, 1), (1, 0, 2)), (BIG, (1, 2, 0))],
         "back": [((1, 2, 0),), ((0, 1, 2),)],
     },
+    "digits": {
+        "mark": [(T, (1, 2)), (GREAT, tuple(range(30)))],
+        "is_marked": [(T, (1, 2, 0)), (T, (1, 2)), (GREAT, tuple(range(30)))],
+        "missed": [(T,), (GREAT,), (lined(59, 2, 1, 0),)],
+    },
+    "ciphers": {
+        "ciphered": [(T, 1, (0, 2, 2)), (GREAT, 59, tuple(range(30)))],
+        "deciphered": [(T, 1, (1, 2, 0)), (GREAT, 59, tuple(range(30)))],
+        "keys": [(T, (((0, 2), (1, 2)),)), (T, ()), (GREAT, (((0,), (0,)),) * 10)],
+    },
+    "givens": {
+        "givens_error": [(2, GIVENS), (8, LONG_GIVENS)] + [(2, value) for value in SOME],
+        "torn": [(F, GIVENS), (FREE, LONG_GIVENS), (EIGHT, LONG_GIVENS), (F, TORN_GIVENS)],
+        "verdict_given": [(F, GIVENS, ("with", 0, 3), 2), (FREE, LONG_GIVENS, LONG, OTHER_LONG)],
+        "reasons": [(F, GIVENS, ("with", 1, 0), 2), (F, GIVENS, 0, 2), (FREE, LONG_GIVENS, LONG, OTHER_LONG)],
+        "world_given": [
+            (*arguments, is_same) for is_same in (True, False)
+            for arguments in ((F, GIVENS, ("with", 0, 3), 2), (FREE, LONG_GIVENS, LONG, OTHER_LONG))
+        ],
+    },
+    "least": {"least_size": [(F,), (EIGHT,), ((8, LONG_CHAINS[1][0], ()),)]},
 }
 
 

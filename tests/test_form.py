@@ -68,6 +68,16 @@ INTERFACE = {
         "turned": ["table", "way"], "turned_facts": ["facts", "way"], "turned_formula": ["formula", "way"],
         "back": ["way"],
     },
+    "digits": {"mark": ["table", "word"], "is_marked": ["table", "word"], "missed": ["table"]},
+    "ciphers": {
+        "ciphered": ["table", "key", "word"], "deciphered": ["table", "key", "word"], "keys": ["table", "pairs"],
+    },
+    "givens": {
+        "givens_error": ["names", "value"], "torn": ["facts", "givens"],
+        "verdict_given": ["facts", "givens", "one", "other"], "reasons": ["facts", "givens", "one", "other"],
+        "world_given": ["facts", "givens", "one", "other", "is_same"],
+    },
+    "least": {"least_size": ["facts"]},
     "errors": {
         "BadFacts": ["number", "word"], "BadFormula": ["word"], "BadSize": ["size"], "BadText": ["line", "number"],
         "Full": [], "NoTable": ["pair", "numbers"], "NotOnce": ["name"], "NothingToUndo": [], "TableError": [],
@@ -75,8 +85,6 @@ INTERFACE = {
         "NoClaim": ["number"], "NoEntry": ["number"], "NoPair": ["number"],
     },
 }
-
-
 def files():
     return sorted(name for name in os.listdir(FOLDER) if name != "__pycache__")
 
@@ -236,8 +244,11 @@ class Files(unittest.TestCase):
             self.assertNotIn(name, reached)
 
     def test_methods(self):
+        own = {
+            part.name for _, _, tree in self.each() for node in tree.body if isinstance(node, ast.ClassDef)
+            for part in node.body if isinstance(part, ast.FunctionDef)
+        }
         for name, _, tree in self.each():
-            own = {node.name for node in ast.walk(tree) if isinstance(node, ast.FunctionDef)}
             for node in ast.walk(tree):
                 if isinstance(node, ast.Call) and isinstance(node.func, ast.Attribute):
                     self.assertIn(node.func.attr, METHODS | own, name)
@@ -275,6 +286,46 @@ class Files(unittest.TestCase):
                 added = isinstance(above, ast.Attribute) and above.attr in ("add", "discard")
                 measured = isinstance(above, ast.Call) and above.func.id in ("len", "sorted")
                 self.assertTrue(asked or added or measured, (name, function.name))
+
+    def test_no_generators(self):
+        # Beside a class that compares, what any, all, min, max, sum and sorted take is a list.
+        for name, _, tree in self.each():
+            for node in ast.walk(tree):
+                self.assertNotIsInstance(node, (ast.GeneratorExp, ast.Yield, ast.YieldFrom), name)
+                self.assertFalse(isinstance(node, ast.Attribute) and node.attr == "sort", name)
+
+    def test_classes(self):
+        allowed = {"__init__", "__eq__", "__str__", "__len__", "__getitem__", "__iter__"}
+        for name, _, tree in self.each():
+            for node in ast.walk(tree):
+                if isinstance(node, ast.ClassDef):
+                    self.assertEqual(node.decorator_list, [])
+                    self.check_class(node, allowed, name)
+                elif isinstance(node, ast.FunctionDef):
+                    told = [found.id for found in node.decorator_list]
+                    self.assertIn(told, ([], ["property"]), name)
+
+    def check_class(self, node, allowed, name):
+        """Check what stands in a class, and that no name is both a method's and an attribute's."""
+        methods = {part.name for part in node.body if isinstance(part, ast.FunctionDef)}
+        self.assertLessEqual({method for method in methods if method.startswith("__")}, allowed, name)
+        for part in node.body:
+            docstring = isinstance(part, ast.Expr) and isinstance(part.value, ast.Constant)
+            self.assertTrue(docstring or isinstance(part, ast.FunctionDef), name)
+        attributes = {
+            part.attr for part in ast.walk(node) if isinstance(part, ast.Attribute) and isinstance(part.ctx, ast.Store)
+        }
+        self.assertEqual(methods & attributes, set(), name)
+        self.assertEqual((methods | attributes) & METHODS, set(), name)
+        # Whatever has items by their numbers tells by itself that it is not gone through.
+        self.assertEqual("__getitem__" in methods, "__iter__" in methods, name)
+
+    def test_errors_that_are_caught_are_own(self):
+        own = set(INTERFACE["errors"])
+        for name, _, tree in self.each():
+            for node in ast.walk(tree):
+                if isinstance(node, ast.ExceptHandler):
+                    self.assertIn(node.type.id, own, name)
 
     def test_barred_words(self):
         for name, text, tree in self.each():
