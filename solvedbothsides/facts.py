@@ -3,7 +3,7 @@
 from solvedbothsides.bounds import MAX_ENTRIES, MAX_NAMES, MAX_UNLIKE
 from solvedbothsides.choices import least_shortest
 from solvedbothsides.closing import closed
-from solvedbothsides.errors import NoTable
+from solvedbothsides.errors import BadFacts, NoTable
 from solvedbothsides.shapes import are_below, is_below, is_tuple, is_tuple_between
 
 
@@ -59,6 +59,14 @@ def clash(facts):
     """Return the pair that tells which entries make which unlike names one thing, None if there is a world."""
     found = least_shortest(len(facts[1]), lambda numbers: pair_made_one(facts, numbers) is not None)
     return None if found is None else (pair_made_one(facts, found), found)
+
+
+def refuse_no_facts(value):
+    """Raise BadFacts if value is no facts."""
+    found = facts_error(value)
+    if found is not None:
+        number, word = found
+        raise BadFacts(number, word)
 
 
 def refuse_clash(facts):

@@ -107,6 +107,17 @@ CALLS = {
         ],
     },
     "least": {"least_size": [(F,), (EIGHT,), ((8, LONG_CHAINS[1][0], ()),)]},
+    "spans": {
+        "span": [(T, (0, 1)), (T, (2, 2)), (GREAT, (59,))],
+        "lone": [(T,), (GREAT,)],
+        "makers": [(T,), (lined(12, 1, 1, 0),)],
+    },
+    "texts": {
+        "formula_text": [(BIG,), (0,)],
+        "facts_text": [(F,), (EIGHT,), (WITHOUT_WORLD,)],
+        "read_formula": [(2, " ahead 0  1"), (8, "with 7 behind 6 5")],
+        "read_facts": [("names 4\n0 with 1 gives 2\n0 unlike 1",), ("names 1",)],
+    },
 }
 
 
@@ -119,8 +130,9 @@ class Conventions(unittest.TestCase):
                     yield getattr(module, name), arguments
 
     def test_each_function_is_called(self):
+        # What books and desks are is tested with them.
         for file, listed in INTERFACE.items():
-            if file != "errors":
+            if file not in ("errors", "books", "desks"):
                 self.assertEqual(set(CALLS[file]), set(listed))
 
     def test_equal_calls_and_arguments_that_stay(self):

@@ -78,6 +78,13 @@ INTERFACE = {
         "world_given": ["facts", "givens", "one", "other", "is_same"],
     },
     "least": {"least_size": ["facts"]},
+    "spans": {"span": ["table", "things"], "lone": ["table"], "makers": ["table"]},
+    "books": {"Book": ["facts"]},
+    "texts": {
+        "formula_text": ["formula"], "facts_text": ["facts"], "read_formula": ["names", "value"],
+        "read_facts": ["value"],
+    },
+    "desks": {"Desk": ["book"]},
     "errors": {
         "BadFacts": ["number", "word"], "BadFormula": ["word"], "BadSize": ["size"], "BadText": ["line", "number"],
         "Full": [], "NoTable": ["pair", "numbers"], "NotOnce": ["name"], "NothingToUndo": [], "TableError": [],
@@ -85,6 +92,17 @@ INTERFACE = {
         "NoClaim": ["number"], "NoEntry": ["number"], "NoPair": ["number"],
     },
 }
+# What the interface lists for each class that is no error, with the names of the arguments; None for a property.
+MEMBERS = {
+    ("books", "Book"): {
+        "facts": None, "claims": None, "version": None, "changed": None, "told": [],
+        "note": ["one", "other", "out"], "strike": ["number"], "part": ["one", "other"], "drop": ["number"],
+        "claim": ["one", "other"], "forget": ["number"], "undo": [], "tried": ["function"],
+    },
+    ("desks", "Desk"): {"say": ["line"], "history": None},
+}
+
+
 def files():
     return sorted(name for name in os.listdir(FOLDER) if name != "__pycache__")
 
@@ -344,6 +362,27 @@ class Interface(unittest.TestCase):
                     found = getattr(module, name)
                     self.assertEqual(found.__module__, module.__name__)
                     self.assertEqual(self.arguments(found), arguments)
+
+    def test_members_are_defined_in_their_class(self):
+        for (file, name), members in MEMBERS.items():
+            found = vars(getattr(importlib.import_module(f"{PACKAGE}.{file}"), name))
+            for member, arguments in members.items():
+                with self.subTest(name, member=member):
+                    if arguments is None:
+                        self.assertIsInstance(found[member], property)
+                        self.assertIsNone(found[member].fset)
+                        self.assertIsNone(found[member].fdel)
+                    else:
+                        self.assertEqual(list(inspect.signature(found[member]).parameters)[1:], arguments)
+
+    def test_operators_are_defined_in_their_class(self):
+        found = vars(importlib.import_module(f"{PACKAGE}.books").Book)
+        self.assertLessEqual({"__getitem__", "__len__", "__eq__", "__str__"}, set(found))
+
+    def test_every_file_and_name_of_the_interface(self):
+        listed = sorted(name + ".py" for name in INTERFACE)
+        self.assertEqual(len(listed), 18)
+        self.assertLessEqual(set(listed), set(files()))
 
     def arguments(self, found):
         if not inspect.isclass(found):
