@@ -130,8 +130,7 @@ class Book:
         return isinstance(other, Book) and self.facts == other.facts and self.claims == other.claims
 
     def __str__(self):
-        unlike = len(self.facts[2])
-        return f"{len(self.facts[1])} entries, {unlike} unlike, {len(self.claims)} claims, version {self.version}"
+        return f"{len(self)} entries, {len(self.facts[2])} unlike, {len(self.claims)} claims, version {self.version}"
 
     def _versions(self):
         """Return for each claim the version that it came with, by which two equal claims are told apart."""

@@ -1,9 +1,7 @@
 """A desk that answers lines about a book, and keeps what was said last."""
 
 from solvedbothsides.answers import answer_to
-from solvedbothsides.errors import (
-    BadFacts, BadFormula, BadText, Full, NoClaim, NoEntry, NoPair, NoTable, NothingToUndo,
-)
+from solvedbothsides.errors import BadFacts, BadFormula, BadText, Full, NoClaim, NoEntry, NoPair, NoTable, NothingToUndo
 
 MAX_HISTORY = 10
 
@@ -29,7 +27,8 @@ class Desk:
 
 
 def answer_or_refusal(book, line):
-    """Return the answer to a line that is a string, be it that the line or the call is refused."""
+    """Return the answer to a line that is a string, also where the line is refused, or the call that it asks for."""
+    # These are all the errors that the calls behind a line raise; BadText is only raised for words that are no line.
     try:
         return answer_to(book, line)
     except BadText:

@@ -6,8 +6,11 @@ from solvedbothsides.bounds import MAX_ENTRIES, MAX_NAMES, MAX_UNLIKE
 from solvedbothsides.errors import NoTable
 from solvedbothsides.facts import clash, facts_error, forcing, merged
 from solvedbothsides.follow import alike, follows, spare
+from solvedbothsides.givens import reasons, torn, verdict_given, world_given
+from solvedbothsides.least import least_size
 from solvedbothsides.placing import placed, places
 from solvedbothsides.plain import is_road, plain, road, same
+from solvedbothsides.texts import facts_text, read_facts
 from solvedbothsides.turning import turned_facts
 from solvedbothsides.worlds import joined, parted, verdict, world, world_error, world_of
 from helper import F, LONG_CHAINS, ODD, T, by_hand, exact, many_facts
@@ -322,6 +325,13 @@ class WithoutWorld(unittest.TestCase):
             self.check(world, facts)
             for size in (2 * facts[0], 60):
                 self.check(world_of, facts, size)
+            self.check(least_size, facts)
+            for givens in ((), ((0, 1),), ((0, 1), (0, 2), (1, 2))):
+                self.check(torn, facts, givens)
+                for function in (verdict_given, reasons):
+                    self.check(function, facts, givens, 0, ("with", 0, 1))
+                for is_same in (True, False):
+                    self.check(world_given, facts, givens, 0, ("with", 0, 1), is_same)
 
     def test_not_raised(self):
         for facts in self.FACTS:
@@ -336,6 +346,7 @@ class WithoutWorld(unittest.TestCase):
             self.assertIsNone(placed(facts, ((0, 1), (1, 0))))
             self.assertEqual(places(facts, ((0, 1), (1, 0))), 0)
             self.assertEqual(turned_facts(facts, (0, 1, 2)), facts)
+            self.assertEqual(read_facts(facts_text(facts)), facts)
 
 
 if __name__ == "__main__":

@@ -200,7 +200,8 @@ class Files(unittest.TestCase):
     def test_builtins(self):
         for name, _, tree in self.each():
             bound = bound_names(tree)
-            self.assertEqual(bound & set(dir(builtins)), set(), name)
+            # A session that was run keeps its last value among the builtins, as "_".
+            self.assertEqual(bound & set(dir(builtins)) - {"_"}, set(), name)
             for node in ast.walk(tree):
                 if isinstance(node, ast.Name) and node.id not in bound:
                     self.assertIn(node.id, BUILTINS, name)
